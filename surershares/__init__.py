@@ -1,0 +1,1 @@
+"""Surershares: samplers of records by keys."""

@@ -1,0 +1,155 @@
+"""[17] and the interface: the errors, which file defines what, what stands in a class's own body."""
+
+import inspect
+import unittest
+
+import surershares.errors as errors
+import surershares.keys as keys
+import surershares.samplers as samplers
+
+LOOKUPS = "NoName(name), NoPlace(place), NoRecord(number), NoService(name), NoFloor(name)"
+VALUES = (
+    "BadKeyset(given), BadSampler(given), BadSalt(given), BadShare(given), BadKind(given), BadText(), BadLine(number), "
+    "BadLog(place), BadNumbers(place), Ringed(ring), MixedKeys(), Doubled(number), Unlawful(first, second, name), "
+    "NotThinner(given), NoPipeline(given), NotWithin(given), TooMuch(given), NoContrast(), NoCrowd(), TooLong(length), "
+    "OverBudget(price), Outside(name), Taken(name), Stopped(number, word, held)"
+)
+
+FUNCTIONS = {
+    keys: {
+        "is_keyset": ["keys", "thing"],
+        "within": ["one", "other"],
+        "joint": ["one", "other"],
+        "common": ["one", "other"],
+        "below": ["keys", "keyset"],
+        "tops": ["keys", "keyset"],
+        "keyset_text": ["keyset"],
+        "keyset_of": ["keys", "text"],
+    },
+}
+
+METHODS = {
+    keys.Keys: "__init__ names pairs text keysets tells told __contains__ __len__ __eq__ closed of",
+    samplers.Sampler: "__init__ schema keyset rate salt text __eq__ at of",
+    samplers.Pipeline: (
+        "__init__ schema samplers text plain share together squares __len__ __getitem__ __contains__ __bool__ "
+        "__iter__ __eq__ __le__ __lt__ __and__ __or__ __rshift__ salted of"
+    ),
+}
+
+PROPERTIES = {
+    keys.Keys: "names pairs text keysets",
+    samplers.Sampler: "schema keyset rate salt text",
+    samplers.Pipeline: "schema samplers text plain",
+}
+
+ARGUMENTS = {
+    keys.Keys: "(names, tells=())",
+    keys.Keys.tells: "(self, one, other)",
+    keys.Keys.told: "(self, name)",
+    keys.Keys.closed: "(self, names)",
+    keys.Keys.of: "(text)",
+    samplers.Sampler: "(keys, names, rate, *, salt='')",
+    samplers.Sampler.at: "(self, rate)",
+    samplers.Sampler.of: "(keys, text)",
+    samplers.Pipeline: "(keys, samplers=())",
+    samplers.Pipeline.share: "(self, keyset)",
+    samplers.Pipeline.together: "(self, keyset)",
+    samplers.Pipeline.squares: "(self, keyset)",
+    samplers.Pipeline.salted: "(self, word)",
+    samplers.Pipeline.of: "(keys, text)",
+}
+
+
+def listed(text):
+    """The pairs (name, attributes) of a list of errors as the document writes it."""
+    found = []
+    for part in text.split("), "):
+        name, _, inner = part.rstrip(")").partition("(")
+        found.append((name, [word for word in inner.split(", ") if word]))
+    return found
+
+
+class Errors(unittest.TestCase):
+    def test_all_are_there_under_their_class(self):
+        for base, text, many in ((LookupError, LOOKUPS, 5), (ValueError, VALUES, 24)):
+            self.assertEqual(len(listed(text)), many)
+            for name, _ in listed(text):
+                with self.subTest(name=name):
+                    found = getattr(errors, name)
+                    self.assertEqual(found.__bases__, (base,))
+                    self.assertEqual((found.__module__, found.__name__), ("surershares.errors", name))
+
+    def test_values_become_attributes(self):
+        for name, words in listed(LOOKUPS) + listed(VALUES):
+            with self.subTest(name=name):
+                values = [f"v{place}" for place in range(len(words))]
+                wanted = dict(zip(words, values))
+                self.assertEqual(vars(getattr(errors, name)(*values)), wanted)
+                self.assertEqual(vars(getattr(errors, name)(**wanted)), wanted)
+
+    def test_values_are_needed(self):
+        for name, words in listed(LOOKUPS) + listed(VALUES):
+            if words:
+                with self.subTest(name=name), self.assertRaises(TypeError):
+                    getattr(errors, name)()
+
+    def test_tuples_stay_and_lists_count_as_tuples(self):
+        self.assertEqual(errors.BadShare((2, 4)).given, (2, 4))
+        given = [2, 4]
+        error = errors.BadShare(given)
+        given.append(5)
+        self.assertEqual(error.given, (2, 4))
+        self.assertEqual(errors.Ringed(["a", "b"]).ring, ("a", "b"))
+        self.assertEqual(errors.Stopped(1, "BadShare", [2, 4]).held, (2, 4))
+        self.assertIsNone(errors.Stopped(1, "MixedKeys", None).held)
+
+    def test_are_raised_and_caught(self):
+        with self.assertRaises(LookupError) as caught:
+            raise errors.NoName("shop")
+        self.assertEqual(caught.exception.name, "shop")
+        with self.assertRaises(ValueError):
+            raise errors.Unlawful(1, 2, "shop")
+
+
+class Files(unittest.TestCase):
+    def test_functions(self):
+        for module, functions in FUNCTIONS.items():
+            for name, arguments in functions.items():
+                with self.subTest(name=name):
+                    found = vars(module)[name]
+                    self.assertTrue(inspect.isfunction(found))
+                    self.assertEqual(found.__module__, module.__name__)
+                    self.assertEqual(list(inspect.signature(found).parameters), arguments)
+
+    def test_classes(self):
+        wanted = {keys.Keys: "surershares.keys", samplers.Sampler: "surershares.samplers",
+                  samplers.Pipeline: "surershares.samplers"}
+        for found, module in wanted.items():
+            self.assertEqual(found.__module__, module)
+
+    def test_methods_stand_in_the_class_itself(self):
+        for found, names in METHODS.items():
+            for name in names.split():
+                with self.subTest(owner=found.__name__, name=name):
+                    self.assertIn(name, vars(found))
+
+    def test_properties_have_no_setter(self):
+        for found, names in PROPERTIES.items():
+            for name in names.split():
+                with self.subTest(owner=found.__name__, name=name):
+                    self.assertIsInstance(vars(found)[name], property)
+                    self.assertIsNone(vars(found)[name].fset)
+
+    def test_static_methods(self):
+        for found in (keys.Keys, samplers.Sampler, samplers.Pipeline):
+            self.assertIsInstance(vars(found)["of"], staticmethod)
+
+    def test_arguments(self):
+        for found, arguments in ARGUMENTS.items():
+            with self.subTest(found=found):
+                self.assertEqual(str(inspect.signature(found)), arguments)
+
+
+if __name__ == "__main__":
+    unittest.main()
