@@ -2,6 +2,7 @@
 
 from math import gcd
 
+NOUGHT = (0, 1)
 ONE = (1, 1)
 LETTERS = "abcdefghijklmnopqrstuvwxyz"
 DIGITS = "0123456789"
@@ -25,6 +26,11 @@ def times(one, other):
     return lowest(one[0] * other[0], one[1] * other[1])
 
 
+def plus(one, other):
+    """The sum of two FRACTIONs."""
+    return lowest(one[0] * other[1] + other[0] * one[1], one[1] * other[1])
+
+
 def minus(one, other):
     """The difference of two FRACTIONs."""
     return lowest(one[0] * other[1] - other[0] * one[1], one[1] * other[1])
@@ -36,9 +42,55 @@ def inverse(fraction):
     return (d, n)
 
 
+def over(one, other):
+    """The one FRACTION divided by the other, which is above nought."""
+    return times(one, inverse(other))
+
+
+def total(fractions):
+    """The sum of some FRACTIONs."""
+    found = NOUGHT
+    for fraction in fractions:
+        found = plus(found, fraction)
+    return found
+
+
+def multiplied(fractions):
+    """The product of some FRACTIONs."""
+    found = ONE
+    for fraction in fractions:
+        found = times(found, fraction)
+    return found
+
+
+def power(base, many):
+    """The product of so many numbers base."""
+    found = 1
+    for _ in range(many):
+        found = found * base
+    return found
+
+
+def repeated(fraction, many):
+    """The product of so many FRACTIONs like this one."""
+    n, d = fraction
+    return (power(n, many), power(d, many))
+
+
+def least_above(fraction):
+    """The least number from 1 on that is above a FRACTION."""
+    n, d = fraction
+    return max(1, n // d + 1)
+
+
 def at_most(one, other):
     """Whether the one FRACTION is not above the other."""
     return one[0] * other[1] <= other[0] * one[1]
+
+
+def less(one, other):
+    """Whether the one FRACTION is below the other."""
+    return not at_most(other, one)
 
 
 def lesser(one, other):
@@ -49,6 +101,21 @@ def lesser(one, other):
 def greater(one, other):
     """The greater one of two FRACTIONs."""
     return other if at_most(one, other) else one
+
+
+def is_number(thing):
+    """Whether thing is a number; True and False are none."""
+    return isinstance(thing, int) and not isinstance(thing, bool)
+
+
+def first_doubled(numbers):
+    """The first one of the numbers that an earlier one is equal to; None if there is none."""
+    met = {}
+    for number in numbers:
+        if number in met:
+            return number
+        met[number] = True
+    return None
 
 
 def is_share(pair):

@@ -2,11 +2,28 @@
 
 import unittest
 
+from surershares.answers import (
+    Crowds, Lots, Pairs, Total, Unlike, Worths, answer, kept_mean, question_of, spread, weight,
+)
 from surershares.errors import BadShare, MixedKeys
 from surershares.keys import Keys, below, common, is_keyset, joint, keyset_of, keyset_text, tops, within
 from surershares.samplers import Pipeline, Sampler
+from surershares.streams import (
+    agreement, chance, chance_of, chances, classes, coins, is_stream, kept_by, stream_of, values_of,
+)
+from surershares.surer import Contrast, Crowd, both_ways, compare, contrast, crowd, surer_counts, surer_sums
+from surershares.thinner import Grid, first_over, further, grid_of
 
 KEYS = Keys(("city", "shop", "user"), (("shop", "city"),))
+STREAM = ((4, (1, 1, 5)), (0, (1, 1, 6)), (9, (1, 2, 5)))
+HALF = Pipeline.of(KEYS, "user 1/2; # 2/3 a")
+QUESTIONS = (Total(KEYS, "user"), Worths(((4, 1), (0, -3))), Unlike(KEYS, ("user",)), Pairs(KEYS, ("shop",)), Crowds(KEYS, (), 2),
+             Lots((((), 1), ((0, 4), 2))), Unlike(KEYS, ("#",)) * Total(KEYS, "city") - Worths(()))
+
+
+def listed(value):
+    """The value with a list in the place of each tuple, at any depth."""
+    return [listed(item) for item in value] if isinstance(value, (tuple, list)) else value
 
 
 class ListsForTuples(unittest.TestCase):
@@ -47,6 +64,44 @@ class ListsForTuples(unittest.TestCase):
         self.assertIs(["user"] in pipeline, True)
         self.assertIs(["#"] in pipeline, False)
 
+    def test_streams(self):
+        stream, one, other = listed(STREAM), listed(STREAM[0]), listed(STREAM[1])
+        self.assertEqual(stream_of(KEYS, stream), STREAM)
+        self.assertIs(is_stream(KEYS, stream), False)
+        self.assertEqual((agreement(KEYS, one, other), agreement(KEYS, one, one)), (("city", "shop"), ("#",)))
+        for keyset in KEYS.keysets:
+            self.assertEqual(values_of(KEYS, listed(keyset), one), values_of(KEYS, keyset, STREAM[0]))
+            self.assertEqual(classes(KEYS, listed(keyset), stream), classes(KEYS, keyset, STREAM))
+        self.assertEqual(coins(HALF, stream), coins(HALF, STREAM))
+        numbers = ((0, 1), (1, 2), (1, 3), (2, 3), (0, 1))
+        self.assertEqual(kept_by(HALF, stream, listed(numbers)), kept_by(HALF, STREAM, numbers))
+        self.assertEqual(kept_by(HALF, STREAM, numbers), STREAM[2:])
+        self.assertEqual(chance(HALF, stream), chance(HALF, STREAM))
+        self.assertEqual(chance_of(HALF, stream, [4, 9]), chance_of(HALF, STREAM, (4, 9)))
+        self.assertEqual(chances(HALF, stream), chances(HALF, STREAM))
+
+    def test_grids(self):
+        self.assertEqual(Grid(KEYS, ["user", "shop"], 2, 3), Grid(KEYS, ("user", "shop"), 2, 3))
+        self.assertEqual(Grid(KEYS, ["#"], 2, 1).stream(), ((0, (0, 0, 0)), (1, (0, 0, 0))))
+        self.assertEqual(Grid(KEYS, [], 1, 2).keyset, ())
+
+    def test_questions(self):
+        stream = listed(STREAM)
+        pairs = ((Worths(((4, 1), (0, -3))), Worths([[4, 1], [0, -3]])), (Lots((((0, 4), 2), ((), 1))), Lots([[[0, 4], 2], [[], 1]])),
+                 (Unlike(KEYS, ("shop",)), Unlike(KEYS, ["shop"])), (Pairs(KEYS, ("#",)), Pairs(KEYS, ["#"])),
+                 (Crowds(KEYS, ("user",), 2), Crowds(KEYS, ["user"], 2)))
+        for one, other in pairs + tuple((question, question) for question in QUESTIONS):
+            self.assertEqual((one.value(STREAM), one.parts(STREAM)), (other.value(stream), other.parts(stream)))
+            for call in (answer, spread, kept_mean):
+                self.assertEqual(call(one, HALF, STREAM), call(other, HALF, stream))
+
+    def test_papers(self):
+        none = Pipeline(KEYS)
+        self.assertEqual(Contrast(HALF, none, ["user"], 2), Contrast(HALF, none, ("user",), 2))
+        self.assertEqual(Contrast(HALF, none, ["#"], 1).stream(), Contrast(HALF, none, ("#",), 1).stream())
+        self.assertEqual(Crowd(HALF, none, ["shop"], 2), Crowd(HALF, none, ("shop",), 2))
+        self.assertEqual(Crowd(HALF, none, ["#"], 1).keyset, ("#",))
+
     def test_an_error_has_a_tuple(self):
         with self.assertRaises(BadShare) as caught:
             Sampler(KEYS, [], [4, 2])
@@ -83,6 +138,48 @@ class ByNames(unittest.TestCase):
         self.assertEqual(pipeline.salted(word="b").text, "user 1/2 ab")
 
 
+    def test_streams(self):
+        self.assertIs(is_stream(thing=STREAM, keys=KEYS), True)
+        self.assertEqual(stream_of(records=STREAM, keys=KEYS), STREAM)
+        self.assertEqual(agreement(other=STREAM[1], one=STREAM[0], keys=KEYS), ("city", "shop"))
+        self.assertEqual(values_of(record=STREAM[0], keyset=("user",), keys=KEYS), (5,))
+        self.assertEqual(len(classes(stream=STREAM, keyset=("user",), keys=KEYS)), 2)
+        self.assertEqual(len(coins(stream=STREAM, pipeline=HALF)), 5)
+        self.assertEqual(kept_by(numbers=[(0, 1)] * 5, stream=STREAM, pipeline=HALF), STREAM)
+        self.assertEqual(chance(records=STREAM[:1], pipeline=HALF), (1, 3))
+        self.assertEqual(chance_of(kept=(4,), stream=STREAM[:1], pipeline=HALF), (1, 3))
+        self.assertEqual(chances(stream=STREAM[:1], pipeline=HALF), [((), (2, 3)), ((4,), (1, 3))])
+
+    def test_thinner(self):
+        none = Pipeline(KEYS)
+        self.assertIsNone(first_over(other=HALF, pipeline=none))
+        self.assertEqual(further(other=HALF, pipeline=none), HALF)
+        self.assertEqual(grid_of(other=none, pipeline=HALF).keyset, ("user",))
+        grid = Grid(many=3, n=1, names=("user",), keys=KEYS)
+        self.assertEqual((grid.record(place=2), grid.chance(pipeline=none)), ((2, (2, 2, 0)), (1, 1)))
+        self.assertEqual((grid.margin(other=none, pipeline=HALF), grid.shows(other=none, pipeline=HALF)), ((3, 2), True))
+
+    def test_questions(self):
+        total, worths, unlike = Total(name="user", keys=KEYS), Worths(table=[(4, 2)]), Unlike(names=("user",), keys=KEYS)
+        pairs, crowds, lots = Pairs(names=(), keys=KEYS), Crowds(least=2, names=(), keys=KEYS), Lots(table=[((), 7)])
+        found = [question.value(stream=STREAM) for question in (total, worths, unlike, pairs, crowds, lots)]
+        self.assertEqual(found, [16, 2, 2, 3, 1, 7])
+        self.assertEqual(((lots + lots).value(stream=STREAM), (lots * lots).parts(stream=STREAM)), (14, [((), 49)]))
+        self.assertEqual(question_of(text="pairs -", keys=KEYS).text, "pairs -")
+        self.assertEqual(answer(kept=STREAM, pipeline=HALF, question=worths), (6, 1))
+        self.assertEqual(spread(stream=STREAM, pipeline=HALF, question=worths), (8, 1))
+        self.assertEqual(kept_mean(stream=STREAM, pipeline=HALF, question=worths), (2, 3))
+        self.assertEqual(weight(question=total, pipeline=HALF), (3, 1))
+
+    def test_surer(self):
+        none = Pipeline(KEYS)
+        self.assertEqual((surer_sums(q=HALF, p=none), surer_counts(q=HALF, p=none), compare(q=HALF, p=none)), (True, True, "all"))
+        self.assertEqual((contrast(q=HALF, p=none), crowd(q=HALF, p=none)), (None, None))
+        self.assertEqual(both_ways(q=HALF, p=none), (None, contrast(HALF, none)))
+        self.assertEqual(Contrast(many=2, names=("user",), q=none, p=HALF).many, 2)
+        self.assertEqual(Crowd(many=2, names=("user",), q=none, p=HALF).many, 2)
+
+
 class Copies(unittest.TestCase):
     def test_keys_copy(self):
         names, tells = ["b", "a"], [["a", "b"]]
@@ -116,6 +213,19 @@ class Copies(unittest.TestCase):
         tops(KEYS, keyset)
         self.assertEqual((keyset, other), (["city", "user"], ["city", "shop"]))
 
+    def test_streams_are_copied(self):
+        records, numbers, kept = listed(STREAM), [[0, 1] for _ in range(5)], [4, 9]
+        stream, parts, found = stream_of(KEYS, records), classes(KEYS, (), records), kept_by(HALF, records, numbers)
+        for call in (coins, chance, chances):
+            call(HALF, records)
+        chance_of(HALF, records, kept)
+        for question in QUESTIONS:
+            (question.value(records), question.parts(records), answer(question, HALF, records), spread(question, HALF, records))
+        self.assertEqual((records, numbers, kept), (listed(STREAM), [[0, 1]] * 5, [4, 9]))
+        records[0][1][0] = 77
+        records.pop()
+        self.assertEqual((stream, parts, found), (STREAM, [STREAM], STREAM))
+
     def test_operators_change_nothing(self):
         one, other = Pipeline.of(KEYS, "user 1/2; # 1/2"), Pipeline.of(KEYS, "user 1/3")
         (one & other, one | other, one >> other, one <= other, one < other, one == other, one.plain, one.salted("a"))
@@ -125,6 +235,11 @@ class Copies(unittest.TestCase):
         found = below(KEYS, ("city",))
         found.append("mine")
         self.assertEqual(below(KEYS, ("city",)), [(), ("city",)])
+        for call in (lambda: classes(KEYS, ("user",), STREAM), lambda: chances(HALF, STREAM), lambda: QUESTIONS[2].parts(STREAM)):
+            once = call()
+            again = list(once)
+            once.clear()
+            self.assertEqual(call(), again)
 
 
 class Kinds(unittest.TestCase):
@@ -135,16 +250,33 @@ class Kinds(unittest.TestCase):
                       pipeline.together([]), pipeline.squares([]), pipeline[0].rate, pipeline[0].keyset):
             self.assertIs(type(found), tuple)
         self.assertIs(type(below(KEYS, [])), list)
+        paper, grid = contrast(HALF, Pipeline(KEYS)), Grid(KEYS, ("user",), 2, 2)
+        for found in (stream_of(KEYS, listed(STREAM)), stream_of(KEYS, listed(STREAM))[0][1], coins(HALF, listed(STREAM)),
+                      coins(HALF, STREAM)[0], kept_by(HALF, listed(STREAM), [[0, 1]] * 5)[0][1], chance(HALF, listed(STREAM)),
+                      classes(KEYS, [], listed(STREAM))[0], classes(KEYS, [], listed(STREAM))[0][0], chances(HALF, STREAM)[0],
+                      chances(HALF, listed(STREAM))[0][0], agreement(KEYS, [1, [1, 1, 1]], [2, [1, 1, 1]]), grid.stream(),
+                      values_of(KEYS, ["user"], [1, [1, 1, 1]]), grid.keyset, grid.record(0), grid.record(0)[1], grid.chance(HALF),
+                      grid.margin(HALF, Pipeline(KEYS)), paper.keyset, paper.spreads, paper.spreads[0], paper.stream(),
+                      paper.stream()[0][1], crowd(HALF, Pipeline(KEYS)).stream(), QUESTIONS[2].parts(STREAM)[0],
+                      QUESTIONS[2].parts(STREAM)[0][0], answer(QUESTIONS[0], HALF, STREAM), both_ways(HALF, HALF)):
+            self.assertIs(type(found), tuple)
+        for found in (classes(KEYS, [], STREAM), chances(HALF, STREAM), QUESTIONS[6].parts(STREAM)):
+            self.assertIs(type(found), list)
 
     def test_truths_are_truths(self):
         one = Pipeline.of(KEYS, "user 1/2")
         for found in (KEYS == KEYS, KEYS.tells("shop", "city"), "city" in KEYS, within((), ()), is_keyset(KEYS, ()),
-                      one == one, one <= one, one < one, () in one, bool(one), one[0] == one[0]):
+                      one == one, one <= one, one < one, () in one, bool(one), one[0] == one[0], is_stream(KEYS, ()),
+                      Grid(KEYS, (), 1, 1) == Grid(KEYS, (), 1, 1), Grid(KEYS, (), 1, 1).shows(one, one), surer_sums(one, one),
+                      surer_counts(one, one), contrast(one, Pipeline(KEYS)) == contrast(one, Pipeline(KEYS)),
+                      crowd(one, Pipeline(KEYS)) == crowd(one, Pipeline(KEYS))):
             self.assertIs(type(found), bool)
 
     def test_equals_nothing_else(self):
-        things = [KEYS, Sampler.of(KEYS, "user 1/2"), Pipeline.of(KEYS, "user 1/2"), None, 1, "user 1/2", ("user",)]
-        for place, one in enumerate(things[:3]):
+        none = Pipeline(KEYS)
+        things = [KEYS, Sampler.of(KEYS, "user 1/2"), HALF, Grid(KEYS, (), 1, 2), contrast(HALF, none), crowd(HALF, none),
+                  *QUESTIONS, None, 1, "user 1/2", ("user",)]
+        for place, one in enumerate(things[:-4]):
             for other in things[:place] + things[place + 1:]:
                 self.assertIs(one == other, False)
                 self.assertIs(other != one, True)

@@ -3,9 +3,13 @@
 import inspect
 import unittest
 
+import surershares.answers as answers
 import surershares.errors as errors
 import surershares.keys as keys
 import surershares.samplers as samplers
+import surershares.streams as streams
+import surershares.surer as surer
+import surershares.thinner as thinner
 
 LOOKUPS = "NoName(name), NoPlace(place), NoRecord(number), NoService(name), NoFloor(name)"
 VALUES = (
@@ -26,7 +30,42 @@ FUNCTIONS = {
         "keyset_text": ["keyset"],
         "keyset_of": ["keys", "text"],
     },
+    streams: {
+        "is_stream": ["keys", "thing"],
+        "stream_of": ["keys", "records"],
+        "agreement": ["keys", "one", "other"],
+        "values_of": ["keys", "keyset", "record"],
+        "classes": ["keys", "keyset", "stream"],
+        "coins": ["pipeline", "stream"],
+        "kept_by": ["pipeline", "stream", "numbers"],
+        "chance": ["pipeline", "records"],
+        "chance_of": ["pipeline", "stream", "kept"],
+        "chances": ["pipeline", "stream"],
+    },
+    thinner: {
+        "first_over": ["pipeline", "other"],
+        "further": ["pipeline", "other"],
+        "grid_of": ["pipeline", "other"],
+    },
+    answers: {
+        "question_of": ["keys", "text"],
+        "answer": ["question", "pipeline", "kept"],
+        "spread": ["question", "pipeline", "stream"],
+        "kept_mean": ["question", "pipeline", "stream"],
+        "weight": ["pipeline", "question"],
+    },
+    surer: {
+        "surer_sums": ["p", "q"],
+        "surer_counts": ["p", "q"],
+        "compare": ["p", "q"],
+        "contrast": ["p", "q"],
+        "crowd": ["p", "q"],
+        "both_ways": ["p", "q"],
+    },
 }
+
+QUESTION = "__init__ value parts __add__ __sub__ __neg__ __mul__"
+PAPER = "__init__ keyset many spreads size stream question __eq__"
 
 METHODS = {
     keys.Keys: "__init__ names pairs text keysets tells told __contains__ __len__ __eq__ closed of",
@@ -35,12 +74,28 @@ METHODS = {
         "__init__ schema samplers text plain share together squares __len__ __getitem__ __contains__ __bool__ "
         "__iter__ __eq__ __le__ __lt__ __and__ __or__ __rshift__ salted of"
     ),
+    thinner.Grid: "__init__ schema keyset n many cells size record stream chance margin shows __eq__",
+    answers.Total: QUESTION + " text",
+    answers.Worths: QUESTION,
+    answers.Unlike: QUESTION + " text",
+    answers.Pairs: QUESTION + " text",
+    answers.Crowds: QUESTION + " text",
+    answers.Lots: QUESTION,
+    surer.Contrast: PAPER,
+    surer.Crowd: PAPER,
 }
 
 PROPERTIES = {
     keys.Keys: "names pairs text keysets",
     samplers.Sampler: "schema keyset rate salt text",
     samplers.Pipeline: "schema samplers text plain",
+    thinner.Grid: "schema keyset n many",
+    answers.Total: "text",
+    answers.Unlike: "text",
+    answers.Pairs: "text",
+    answers.Crowds: "text",
+    surer.Contrast: "keyset many spreads",
+    surer.Crowd: "keyset many spreads",
 }
 
 ARGUMENTS = {
@@ -58,6 +113,28 @@ ARGUMENTS = {
     samplers.Pipeline.squares: "(self, keyset)",
     samplers.Pipeline.salted: "(self, word)",
     samplers.Pipeline.of: "(keys, text)",
+    thinner.Grid: "(keys, names, n, many)",
+    thinner.Grid.cells: "(self)",
+    thinner.Grid.size: "(self)",
+    thinner.Grid.record: "(self, place)",
+    thinner.Grid.stream: "(self)",
+    thinner.Grid.chance: "(self, pipeline)",
+    thinner.Grid.margin: "(self, pipeline, other)",
+    thinner.Grid.shows: "(self, pipeline, other)",
+    answers.Total: "(keys, name)",
+    answers.Worths: "(table)",
+    answers.Unlike: "(keys, names)",
+    answers.Pairs: "(keys, names)",
+    answers.Crowds: "(keys, names, least)",
+    answers.Lots: "(table)",
+    surer.Contrast: "(p, q, names, many)",
+    surer.Crowd: "(p, q, names, many)",
+    surer.Contrast.size: "(self)",
+    surer.Contrast.stream: "(self)",
+    surer.Contrast.question: "(self)",
+    surer.Crowd.size: "(self)",
+    surer.Crowd.stream: "(self)",
+    surer.Crowd.question: "(self)",
 }
 
 
@@ -123,10 +200,11 @@ class Files(unittest.TestCase):
                     self.assertEqual(list(inspect.signature(found).parameters), arguments)
 
     def test_classes(self):
-        wanted = {keys.Keys: "surershares.keys", samplers.Sampler: "surershares.samplers",
-                  samplers.Pipeline: "surershares.samplers"}
-        for found, module in wanted.items():
-            self.assertEqual(found.__module__, module)
+        wanted = {keys: "Keys", samplers: "Sampler Pipeline", thinner: "Grid", answers: "Total Worths Unlike Pairs Crowds Lots",
+                  surer: "Contrast Crowd"}
+        for module, names in wanted.items():
+            for name in names.split():
+                self.assertEqual(vars(module)[name].__module__, module.__name__)
 
     def test_methods_stand_in_the_class_itself(self):
         for found, names in METHODS.items():
@@ -144,6 +222,11 @@ class Files(unittest.TestCase):
     def test_static_methods(self):
         for found in (keys.Keys, samplers.Sampler, samplers.Pipeline):
             self.assertIsInstance(vars(found)["of"], staticmethod)
+
+    def test_questions_take_arguments_by_these_names(self):
+        for found in (answers.Total, answers.Worths, answers.Unlike, answers.Pairs, answers.Crowds, answers.Lots):
+            for name in ("value", "parts"):
+                self.assertEqual(str(inspect.signature(vars(found)[name])), "(self, stream)")
 
     def test_arguments(self):
         for found, arguments in ARGUMENTS.items():
