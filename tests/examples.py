@@ -29,6 +29,8 @@ def run_examples(case, text, names):
                     exec(source, names)
                 case.assertEqual(vars(caught.exception), vars(wanted))
             elif is_expression(source):
-                case.assertEqual(repr(eval(source, names)), expected)
+                found = eval(source, names)
+                # Of what returns nothing the document shows nothing.
+                case.assertEqual(None if found is None else repr(found), expected)
             else:
                 exec(source, names)

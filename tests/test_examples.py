@@ -3,7 +3,7 @@
 import unittest
 
 from examples import run_examples
-from surershares import answers, errors, keys, samplers, streams, surer, thinner
+from surershares import answers, edits, errors, joins, keys, samplers, streams, surer, tables, thinner
 
 KEYS = r"""
     >>> keys = Keys.of("user\nshop tells city")
@@ -125,13 +125,78 @@ SURER = r"""
     raises NoContrast()
 """
 
+TABLES = r"""
+    >>> keys = Keys(("day", "user"), ())
+    >>> day, user, switch = Pipeline.of(keys, "day 1/2"), Pipeline.of(keys, "user 1/2"), Pipeline.of(keys, "- 1/2")
+    >>> numbers(day, "counts"), numbers(user, "sums")
+    (((1, 1), (1, 2), (1, 1), (1, 2), (1, 2)), ((1, 1), (0, 1), (1, 1), (0, 1), (0, 1)))
+    >>> pipeline_by(keys, "sums", ((1, 1), (1, 1), (1, 1), (1, 1), (0, 1))).text
+    'day 1/2; user 1/2'
+    >>> pipeline_by(keys, "counts", ((1, 1), (1, 2), (1, 2), (1, 2), (1, 2)))
+    raises NoPipeline(given=('day', 'user'))
+    >>> least_above(day, user, "counts").text, least_above(day, user, "sums").text, least_above(day, user, "all").text
+    ('day+user 1/2', '', '')
+    >>> greatest_below(day, user, "counts"), barrier(day, user, "counts", False), greatest_below(day, user, "all").text
+    (None, ('day', 'user'), 'day 1/2; user 1/2')
+    >>> both = Pipeline.of(keys, "day 1/2; user 1/2")
+    >>> barrier(both, switch, "counts", True), [corner.text for corner in corners(both, switch, "counts")], corners(day, user, "sums")
+    (('day', 'user'), ['user 1/2', 'day 1/2'], [])
+    >>> moved(Pipeline.of(keys, "user 1/8"), ("user",), ("day", "user"), (1, 2)).text, moves(user, both), gap(day, user) is None
+    ('user 1/4; day+user 1/2', [], False)
+    >>> moved(user, ("user",), ("day",), (1, 2))
+    raises NotWithin(given=('day',))
+    >>> three = Keys(("day", "shop", "user"), ())
+    >>> p, q = Pipeline.of(three, "shop+user 1/2; day+user 1/2"), Pipeline.of(three, "user 1/2; day+shop+user 1/2")
+    >>> compare(p, q), moves(p, q), gap(p, q) is None
+    ('counts', None, False)
+"""
+
+JOINS = r"""
+    >>> keys = Keys(("shop", "user"), ())
+    >>> left, right = Pipeline.of(keys, "user 1/2; # 1/3"), Pipeline.of(keys, "user 1/4")
+    >>> lefts, rights = ((0, (1, 7)), (1, (1, 8))), ((0, (2, 7)), (1, (3, 7)))
+    >>> join = Join(left, right, ("user",))
+    >>> join.joined(lefts, rights), join.value(lefts, rights), join.value(lefts, rights, (((0, 3),), None)), join.gain(("user",)), join.shared
+    ([(0, 0), (0, 1)], 2, 6, (2, 1), (('user',),))
+    >>> join.chance(lefts[:1], rights), join.chance(lefts, rights), join.answer(lefts[:1], rights[:1]), join.answer((), rights)
+    ((1, 12), (1, 72), (12, 1), (0, 1))
+    >>> join.spread(lefts, rights), join.apart(("user",)).spread(lefts, rights), crossing(join, ("user",)), join.best() == join
+    ((44, 1), (92, 1), None, True)
+    >>> wide = Join(left, right, ())
+    >>> shown = crossing(wide, ("user",))
+    >>> shown.n, shown.spreads, wide.best().shared, wide.apart(("user",)) == wide.best()
+    (12, ((2172, 1), (2160, 1)), (), True)
+    >>> shown.streams()[0][0], shown.streams()[1][1], shown.asked[0][:2]
+    ((0, (13, 1)), (1, (26, 2)), ((0, 1), (1, -1)))
+    >>> Join(left, right, ("user", "#"))
+    raises NoName(name='#')
+"""
+
+EDITS = r"""
+    >>> keys = Keys(("day", "user"), ())
+    >>> three = Pipeline.of(keys, "user 1/2; user 1/4; # 1/2")
+    >>> needless(three), trimmed(three).text, edited(three, ("salt", 0, "b")).text
+    ((0,), 'user 1/4; # 1/2', 'user 1/2 b; user 1/4; # 1/2')
+    >>> [effect(three, edit) for edit in (("drop", 0), ("drop", 1), ("salt", 0, "b"), ("names", 1, ("#",)))]
+    ['alike', 'other all', 'all', 'other counts']
+    >>> [len(fewest_edits(three, Pipeline.of(keys, text))) for text in ("user 1/2", "user 1/8; # 1/2", "user 1/4; # 1/2", "")]
+    [2, 1, 0, 3]
+    >>> two, floor = Pipeline.of(keys, "user 1/2; # 1/2"), Pipeline.of(keys, "user 1/4")
+    >>> [least_rate(two, 1, floor, kind) for kind in ("all", "sums", "counts")], least_rate(two, 0, floor, "counts"), least_rate(two, 0, floor, "all")
+    ([(1, 1), (1, 1), (1, 2)], (1, 2), None)
+    >>> edited(two, ("drop", 2))
+    raises NoPlace(place=2)
+"""
+
 
 class Examples(unittest.TestCase):
     def names(self):
         """All that the files of the package define, by name."""
         found = {}
-        for module in (errors, keys, samplers, streams, thinner, answers, surer):
-            found.update(vars(module))
+        for module in (errors, keys, samplers, streams, thinner, answers, surer, tables, joins, edits):
+            # What a file imports is left out: a name of the interface may be a helper's name elsewhere.
+            own = {name: each for name, each in vars(module).items() if getattr(each, "__module__", "") == module.__name__}
+            found.update(own)
         return found
 
     def test_keys_and_samplers(self):
@@ -149,6 +214,15 @@ class Examples(unittest.TestCase):
         names = self.names()
         run_examples(self, ANSWERS, names)
         run_examples(self, SURER, names)
+
+    def test_tables(self):
+        run_examples(self, TABLES, self.names())
+
+    def test_joins(self):
+        run_examples(self, JOINS, self.names())
+
+    def test_edits(self):
+        run_examples(self, EDITS, self.names())
 
 
 if __name__ == "__main__":

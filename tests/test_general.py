@@ -5,13 +5,18 @@ import unittest
 from surershares.answers import (
     Crowds, Lots, Pairs, Total, Unlike, Worths, answer, kept_mean, question_of, spread, weight,
 )
+from surershares.edits import edited, effect, fewest_edits, least_rate, needless, trimmed
 from surershares.errors import BadShare, MixedKeys
+from surershares.joins import Join, crossing
 from surershares.keys import Keys, below, common, is_keyset, joint, keyset_of, keyset_text, tops, within
 from surershares.samplers import Pipeline, Sampler
 from surershares.streams import (
     agreement, chance, chance_of, chances, classes, coins, is_stream, kept_by, stream_of, values_of,
 )
 from surershares.surer import Contrast, Crowd, both_ways, compare, contrast, crowd, surer_counts, surer_sums
+from surershares.tables import (
+    barrier, corners, gap, greatest_below, least_above, moved, moves, numbers, pipeline_by,
+)
 from surershares.thinner import Grid, first_over, further, grid_of
 
 KEYS = Keys(("city", "shop", "user"), (("shop", "city"),))
@@ -19,6 +24,9 @@ STREAM = ((4, (1, 1, 5)), (0, (1, 1, 6)), (9, (1, 2, 5)))
 HALF = Pipeline.of(KEYS, "user 1/2; # 2/3 a")
 QUESTIONS = (Total(KEYS, "user"), Worths(((4, 1), (0, -3))), Unlike(KEYS, ("user",)), Pairs(KEYS, ("shop",)), Crowds(KEYS, (), 2),
              Lots((((), 1), ((0, 4), 2))), Unlike(KEYS, ("#",)) * Total(KEYS, "city") - Worths(()))
+JOIN = Join(HALF, Pipeline.of(KEYS, "user 1/4; city 1/2"), ())
+RIGHTS = ((4, (1, 1, 6)), (1, (2, 3, 5)))
+ASKED = (((4, 2), (9, -1)), None)
 
 
 def listed(value):
@@ -102,6 +110,31 @@ class ListsForTuples(unittest.TestCase):
         self.assertEqual(Crowd(HALF, none, ["shop"], 2), Crowd(HALF, none, ("shop",), 2))
         self.assertEqual(Crowd(HALF, none, ["#"], 1).keyset, ("#",))
 
+    def test_tables(self):
+        for order in ("all", "sums", "counts"):
+            self.assertEqual(pipeline_by(KEYS, order, listed(numbers(HALF, order))), HALF)
+        low, high = ("city",), ("city", "shop")
+        one = Pipeline.of(KEYS, "city 1/2")
+        self.assertEqual(moved(one, list(low), list(high), [1, 2]), moved(one, low, high, (1, 2)))
+        self.assertEqual(moved(one, ["city"], ["#"], [1, 2]), Pipeline.of(KEYS, "# 1/2"))
+
+    def test_joins(self):
+        self.assertEqual(Join(HALF, JOIN.right, ["user", "shop"]), Join(HALF, JOIN.right, ("user", "shop")))
+        stream, rights = listed(STREAM), listed(RIGHTS)
+        self.assertEqual((JOIN.joined(stream, rights), JOIN.chance(stream, rights)), (JOIN.joined(STREAM, RIGHTS), JOIN.chance(STREAM, RIGHTS)))
+        for call in (JOIN.value, JOIN.answer, JOIN.spread):
+            self.assertEqual(call(stream, rights, listed(ASKED)), call(STREAM, RIGHTS, ASKED))
+            self.assertEqual(call(stream, rights, [None, None]), call(STREAM, RIGHTS))
+        self.assertEqual((JOIN.gain(["user"]), JOIN.gain(["#"])), ((2, 1), (1, 1)))
+        self.assertEqual((JOIN.apart(["user"]), JOIN.apart(["#"])), (JOIN.apart(("user",)), JOIN))
+        self.assertEqual((crossing(JOIN, ["user"]), crossing(JOIN, ["#"])), (crossing(JOIN, ("user",)), None))
+
+    def test_edits(self):
+        sampler = Sampler.of(KEYS, "city 1/3")
+        for edit in (("put", 1, sampler), ("drop", 0), ("rate", 0, (1, 3)), ("names", 1, ("shop", "user")), ("salt", 0, "b")):
+            self.assertEqual(edited(HALF, listed(edit)).text, edited(HALF, edit).text)
+            self.assertEqual(effect(HALF, listed(edit)), effect(HALF, edit))
+
     def test_an_error_has_a_tuple(self):
         with self.assertRaises(BadShare) as caught:
             Sampler(KEYS, [], [4, 2])
@@ -179,6 +212,31 @@ class ByNames(unittest.TestCase):
         self.assertEqual(Contrast(many=2, names=("user",), q=none, p=HALF).many, 2)
         self.assertEqual(Crowd(many=2, names=("user",), q=none, p=HALF).many, 2)
 
+    def test_tables(self):
+        none = Pipeline(KEYS)
+        self.assertEqual(numbers(order="all", pipeline=none), ((1, 1),) * 7)
+        self.assertEqual(pipeline_by(numbers=((1, 1),) * 7, order="counts", keys=KEYS), none)
+        self.assertEqual((least_above(order="sums", q=none, p=HALF), greatest_below(order="sums", q=none, p=HALF)), (none, HALF))
+        self.assertEqual((barrier(above=True, order="all", q=none, p=HALF), corners(order="all", q=none, p=HALF)), (None, []))
+        self.assertEqual(moved(rate=(1, 2), high=("#",), low=("user",), pipeline=HALF).text, "# 1/3")
+        self.assertEqual((moves(q=HALF, p=none), gap(q=HALF, p=none), gap(q=none, p=HALF)), ([], None, [("user",)]))
+
+    def test_joins(self):
+        self.assertEqual(Join(names=(), right=JOIN.right, left=HALF), JOIN)
+        self.assertEqual(JOIN.joined(rights=RIGHTS[:1], lefts=STREAM[:1]), [(4, 4)])
+        self.assertEqual(JOIN.value(question=ASKED, rights=RIGHTS, lefts=STREAM), 2)
+        self.assertEqual(JOIN.chance(rights=(), lefts=STREAM[:1]), (1, 3))
+        self.assertEqual(JOIN.answer(question=ASKED, rights=(), lefts=STREAM), (0, 1))
+        self.assertEqual(JOIN.spread(question=ASKED, rights=(), lefts=STREAM), (0, 1))
+        self.assertEqual((JOIN.gain(keyset=("user",)), JOIN.apart(keyset=("user",)).shared), ((2, 1), ()))
+        self.assertEqual(crossing(keyset=("user",), join=JOIN).n % 2, 0)
+
+    def test_edits(self):
+        self.assertEqual(edited(edit=("drop", 0), pipeline=HALF).text, "# 2/3 a")
+        self.assertEqual((effect(edit=("drop", 0), pipeline=HALF), needless(pipeline=HALF)), ("other all", ()))
+        self.assertEqual((trimmed(pipeline=HALF), fewest_edits(other=HALF, pipeline=HALF)), (HALF, []))
+        self.assertEqual(least_rate(kind="all", other=HALF, k=0, pipeline=HALF), (1, 2))
+
 
 class Copies(unittest.TestCase):
     def test_keys_copy(self):
@@ -226,6 +284,22 @@ class Copies(unittest.TestCase):
         records.pop()
         self.assertEqual((stream, parts, found), (STREAM, [STREAM], STREAM))
 
+    def test_tables_joins_and_edits_change_nothing(self):
+        asked, names, rate, table = [[1, 1] for _ in KEYS.keysets], ["user"], [1, 2], [[[4, 2]], None]
+        keyset, stream, rights = ["user"], listed(STREAM), listed(RIGHTS)
+        pipeline_by(KEYS, "counts", asked)
+        moved(HALF, keyset, ["#"], rate)
+        join = Join(HALF, JOIN.right, names)
+        (join.spread(stream, rights, table), join.answer(stream, rights, table), join.value(stream, rights, table))
+        (join.joined(stream, rights), join.apart(keyset), join.gain(keyset), crossing(join, keyset), join.best())
+        edit = ["names", 0, names]
+        found = edited(HALF, edit)
+        self.assertEqual((names, rate, table, keyset, edit), (["user"], [1, 2], [[[4, 2]], None], ["user"], ["names", 0, ["user"]]))
+        self.assertEqual((asked, stream, rights), ([[1, 1]] * 7, listed(STREAM), listed(RIGHTS)))
+        names[0] = "city"
+        self.assertEqual((join.keyset, found.text), (("user",), "user 1/2; # 2/3 a"))
+        self.assertEqual(HALF.text, "user 1/2; # 2/3 a")
+
     def test_operators_change_nothing(self):
         one, other = Pipeline.of(KEYS, "user 1/2; # 1/2"), Pipeline.of(KEYS, "user 1/3")
         (one & other, one | other, one >> other, one <= other, one < other, one == other, one.plain, one.salted("a"))
@@ -235,7 +309,11 @@ class Copies(unittest.TestCase):
         found = below(KEYS, ("city",))
         found.append("mine")
         self.assertEqual(below(KEYS, ("city",)), [(), ("city",)])
-        for call in (lambda: classes(KEYS, ("user",), STREAM), lambda: chances(HALF, STREAM), lambda: QUESTIONS[2].parts(STREAM)):
+        none, one = Pipeline(KEYS), Pipeline.of(KEYS, "city 1/2; user 1/2")
+        for call in (lambda: classes(KEYS, ("user",), STREAM), lambda: chances(HALF, STREAM), lambda: QUESTIONS[2].parts(STREAM),
+                     lambda: moves(Pipeline.of(KEYS, "# 1/2"), Pipeline.of(KEYS, "- 1/2")), lambda: gap(HALF, none),
+                     lambda: JOIN.joined(STREAM, RIGHTS), lambda: fewest_edits(HALF, none),
+                     lambda: [corner.text for corner in corners(one, Pipeline.of(KEYS, "- 1/2"), "counts")]):
             once = call()
             again = list(once)
             once.clear()
@@ -258,9 +336,17 @@ class Kinds(unittest.TestCase):
                       values_of(KEYS, ["user"], [1, [1, 1, 1]]), grid.keyset, grid.record(0), grid.record(0)[1], grid.chance(HALF),
                       grid.margin(HALF, Pipeline(KEYS)), paper.keyset, paper.spreads, paper.spreads[0], paper.stream(),
                       paper.stream()[0][1], crowd(HALF, Pipeline(KEYS)).stream(), QUESTIONS[2].parts(STREAM)[0],
-                      QUESTIONS[2].parts(STREAM)[0][0], answer(QUESTIONS[0], HALF, STREAM), both_ways(HALF, HALF)):
+                      QUESTIONS[2].parts(STREAM)[0][0], answer(QUESTIONS[0], HALF, STREAM), both_ways(HALF, HALF),
+                      numbers(HALF, "all"), numbers(HALF, "sums")[0], barrier(Pipeline.of(KEYS, "city 1/2; user 1/2"),
+                      Pipeline.of(KEYS, "- 1/2"), "counts", True), moves(Pipeline.of(KEYS, "# 1/2"), Pipeline.of(KEYS, "- 1/2"))[0],
+                      gap(HALF, Pipeline(KEYS))[0], JOIN.keyset, JOIN.shared, JOIN.gain([]), JOIN.chance([], []), JOIN.answer([], []),
+                      JOIN.spread(STREAM, RIGHTS), JOIN.joined(STREAM, RIGHTS)[0], crossing(JOIN, ["user"]).spreads,
+                      crossing(JOIN, ["user"]).asked, crossing(JOIN, ["user"]).asked[0][0], crossing(JOIN, ["user"]).streams(),
+                      crossing(JOIN, ["user"]).streams()[1][0][1], needless(HALF), fewest_edits(HALF, Pipeline(KEYS))[0],
+                      least_rate(HALF, 0, HALF, "all")):
             self.assertIs(type(found), tuple)
-        for found in (classes(KEYS, [], STREAM), chances(HALF, STREAM), QUESTIONS[6].parts(STREAM)):
+        for found in (classes(KEYS, [], STREAM), chances(HALF, STREAM), QUESTIONS[6].parts(STREAM), corners(HALF, HALF, "all"),
+                      moves(HALF, HALF), gap(HALF, Pipeline(KEYS)), JOIN.joined((), ()), fewest_edits(HALF, HALF)):
             self.assertIs(type(found), list)
 
     def test_truths_are_truths(self):
@@ -269,13 +355,13 @@ class Kinds(unittest.TestCase):
                       one == one, one <= one, one < one, () in one, bool(one), one[0] == one[0], is_stream(KEYS, ()),
                       Grid(KEYS, (), 1, 1) == Grid(KEYS, (), 1, 1), Grid(KEYS, (), 1, 1).shows(one, one), surer_sums(one, one),
                       surer_counts(one, one), contrast(one, Pipeline(KEYS)) == contrast(one, Pipeline(KEYS)),
-                      crowd(one, Pipeline(KEYS)) == crowd(one, Pipeline(KEYS))):
+                      crowd(one, Pipeline(KEYS)) == crowd(one, Pipeline(KEYS)), JOIN == JOIN, crossing(JOIN, ["user"]) == crossing(JOIN, ["user"])):
             self.assertIs(type(found), bool)
 
     def test_equals_nothing_else(self):
         none = Pipeline(KEYS)
         things = [KEYS, Sampler.of(KEYS, "user 1/2"), HALF, Grid(KEYS, (), 1, 2), contrast(HALF, none), crowd(HALF, none),
-                  *QUESTIONS, None, 1, "user 1/2", ("user",)]
+                  JOIN, crossing(JOIN, ("user",)), *QUESTIONS, None, 1, "user 1/2", ("user",)]
         for place, one in enumerate(things[:-4]):
             for other in things[:place] + things[place + 1:]:
                 self.assertIs(one == other, False)

@@ -4,11 +4,14 @@ import inspect
 import unittest
 
 import surershares.answers as answers
+import surershares.edits as edits
 import surershares.errors as errors
+import surershares.joins as joins
 import surershares.keys as keys
 import surershares.samplers as samplers
 import surershares.streams as streams
 import surershares.surer as surer
+import surershares.tables as tables
 import surershares.thinner as thinner
 
 LOOKUPS = "NoName(name), NoPlace(place), NoRecord(number), NoService(name), NoFloor(name)"
@@ -62,6 +65,28 @@ FUNCTIONS = {
         "crowd": ["p", "q"],
         "both_ways": ["p", "q"],
     },
+    tables: {
+        "numbers": ["pipeline", "order"],
+        "pipeline_by": ["keys", "order", "numbers"],
+        "least_above": ["p", "q", "order"],
+        "greatest_below": ["p", "q", "order"],
+        "barrier": ["p", "q", "order", "above"],
+        "corners": ["p", "q", "order"],
+        "moved": ["pipeline", "low", "high", "rate"],
+        "moves": ["p", "q"],
+        "gap": ["p", "q"],
+    },
+    joins: {
+        "crossing": ["join", "keyset"],
+    },
+    edits: {
+        "edited": ["pipeline", "edit"],
+        "effect": ["pipeline", "edit"],
+        "needless": ["pipeline"],
+        "trimmed": ["pipeline"],
+        "fewest_edits": ["pipeline", "other"],
+        "least_rate": ["pipeline", "k", "other", "kind"],
+    },
 }
 
 QUESTION = "__init__ value parts __add__ __sub__ __neg__ __mul__"
@@ -83,6 +108,8 @@ METHODS = {
     answers.Lots: QUESTION,
     surer.Contrast: PAPER,
     surer.Crowd: PAPER,
+    joins.Join: "__init__ left right keyset schema shared joined value chance answer spread gain apart best __eq__",
+    joins.Crossing: "n spreads asked streams __eq__",
 }
 
 PROPERTIES = {
@@ -96,6 +123,8 @@ PROPERTIES = {
     answers.Crowds: "text",
     surer.Contrast: "keyset many spreads",
     surer.Crowd: "keyset many spreads",
+    joins.Join: "left right keyset schema shared",
+    joins.Crossing: "n spreads asked",
 }
 
 ARGUMENTS = {
@@ -135,6 +164,16 @@ ARGUMENTS = {
     surer.Crowd.size: "(self)",
     surer.Crowd.stream: "(self)",
     surer.Crowd.question: "(self)",
+    joins.Join: "(left, right, names)",
+    joins.Join.joined: "(self, lefts, rights)",
+    joins.Join.value: "(self, lefts, rights, question=(None, None))",
+    joins.Join.chance: "(self, lefts, rights)",
+    joins.Join.answer: "(self, lefts, rights, question=(None, None))",
+    joins.Join.spread: "(self, lefts, rights, question=(None, None))",
+    joins.Join.gain: "(self, keyset)",
+    joins.Join.apart: "(self, keyset)",
+    joins.Join.best: "(self)",
+    joins.Crossing.streams: "(self)",
 }
 
 
@@ -201,7 +240,7 @@ class Files(unittest.TestCase):
 
     def test_classes(self):
         wanted = {keys: "Keys", samplers: "Sampler Pipeline", thinner: "Grid", answers: "Total Worths Unlike Pairs Crowds Lots",
-                  surer: "Contrast Crowd"}
+                  surer: "Contrast Crowd", joins: "Join Crossing"}
         for module, names in wanted.items():
             for name in names.split():
                 self.assertEqual(vars(module)[name].__module__, module.__name__)
