@@ -86,10 +86,11 @@ class Join:
     def spread(self, lefts, rights, question=(None, None)):
         """The average of the square of the answer, less the square of the value."""
         rows = self.weighed(lefts, rights, question)
+        known = {(at, beside): self.chance([lefts[at]], [rights[beside]]) for at, beside, _ in rows}
         found = []
         for (at, beside, after, behind), worth in groups(self._schema, lefts, rights, rows):
-            apart = times(self.chance([lefts[at]], [rights[beside]]), self.chance([lefts[after]], [rights[behind]]))
             both = self.chance([lefts[at], lefts[after]], [rights[beside], rights[behind]])
+            apart = times(known[(at, beside)], known[(after, behind)])
             found.append(times((worth, 1), over(both, apart)))
         value = sum([worth for _, _, worth in rows])
         return minus(total(found), (value * value, 1))

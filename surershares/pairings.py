@@ -15,10 +15,12 @@ def groups(keys, lefts, rights, rows):
     across = [[alike_names(keys, one, other) for other in rights] for one in lefts]
     found = {}
     worths = {}
-    for at, beside, worth in rows:
-        for after, behind, by in rows:
+    for place, (at, beside, worth) in enumerate(rows):
+        for after, behind, by in rows[:place + 1]:
             cross = (across[at][beside], across[after][behind], across[at][behind], across[after][beside])
             ways = (ones[at][after], others[beside][behind], cross)
             found.setdefault(ways, (at, beside, after, behind))
-            worths[ways] = worths.get(ways, 0) + worth * by
+            # A row stands beside itself once, beside each other one twice: ahead of it and behind it.
+            times = 1 if (after, behind) == (at, beside) else 2
+            worths[ways] = worths.get(ways, 0) + worth * by * times
     return [(places, worths[ways]) for ways, places in found.items()]

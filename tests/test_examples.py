@@ -3,7 +3,7 @@
 import unittest
 
 from examples import run_examples
-from surershares import answers, edits, errors, joins, keys, samplers, streams, surer, tables, thinner
+from surershares import answers, board, desk, edits, errors, joins, keys, logs, samplers, streams, surer, tables, texts, thinner
 
 KEYS = r"""
     >>> keys = Keys.of("user\nshop tells city")
@@ -188,12 +188,66 @@ EDITS = r"""
     raises NoPlace(place=2)
 """
 
+LOGS = r"""
+    >>> keys = Keys(("day", "user"), ())
+    >>> day, user, both, each = ("day",), ("user",), ("day", "user"), ("#",)
+    >>> form_of(Pipeline.of(keys, "user 1/2; # 1/3; day 1")), plain_form((day, user, both)), covered((day, user), (both,)), covered((both,), (day, user))
+    ((('user',), ('#',)), (('day', 'user'),), True, False)
+    >>> len(plain_forms(keys)), plain_forms(keys)[:3], plain_forms(keys)[-1]
+    (7, [(), ((),), (('day',),)], (('day',), ('user',)))
+    >>> log = (((1, (0, 5)), (2, (0, 6)), (3, (1, 5))), (2, 3))
+    >>> can_be(keys, log, (both,)), can_be(keys, log, (day, user)), why_not(keys, log, (day, user)), can_be(keys, log, (each,))
+    (True, False, 1, True)
+    >>> len(parting(keys, (both,), (day, user))[0]), len(parting(keys, (user,), (day,))[0]), parting(keys, (user,), (both,)), parting(keys, ((),), ())[1]
+    (3, 2, None, ())
+    >>> logs = Logs(keys, [log, (((7, (2, 8)), (8, (2, 9))), (8,))])
+    >>> logs.misfit((day, user)), logs.misfit((user,)), logs.least_forms(), logs.alone(), logs.surely(user), logs.surely(each)
+    ((0, 1), (0, 1), [(('day', 'user'),)], (('day', 'user'), ('#',)), True, False)
+    >>> logs.chance(Pipeline.of(keys, "day+user 1/2")), logs.chance(Pipeline.of(keys, "user 1/2")), whole(((), day), both), whole((day,), user)
+    ((1, 32), (0, 1), True, False)
+"""
+
+BOARD = r"""
+    >>> keys = Keys(("day", "user"))
+    >>> board = Board(keys)
+    >>> board["app"] = Sampler.of(keys, "user 1/2")
+    >>> board += ("log", Sampler.of(keys, "# 1/2"))
+    >>> board.floor("base", Pipeline.of(keys, "user 1/4; # 1/2"))
+    >>> board.floor("few", Pipeline.of(keys, "- 1/4"), kind="counts")
+    >>> board.cost, board.names, board.pipeline.text, board.effect("log", Sampler.of(keys, "user 1/2 b"))
+    ((1, 4), ('app', 'log'), 'user 1/2; # 1/2', 'counts')
+    >>> board.retune("app", (1, 5))
+    raises Outside(name='base')
+    >>> board.spend((1, 5))
+    raises OverBudget(price=(1, 4))
+    >>> board.attempt((("lift", "base"), ("retune", "app", (1, 5)), ("spend", (1, 8))))
+    raises Stopped(number=1, word='Outside', held='few')
+    >>> board.undo(), board.floors
+    (True, (('base', 'all', 'user 1/4; # 1/2'),))
+"""
+
+TEXTS = r"""
+    >>> keys = Keys(("day", "user"))
+    >>> fraction_text((3, 1)), fraction_in("-2/3"), stream_in(keys, "7: 1 -4\n3: 1 5"), stream_text(((7, (1, -4)),))
+    ('3', (-2, 3), ((7, (1, -4)), (3, (1, 5))), '7: 1 -4')
+    >>> board_text(board_in(keys, "app: user 1/2\nbase counts - 1/2\nbudget 1/2")), board_text(Board(keys))
+    ('app: user 1/2\nbase counts - 1/2\nbudget 1/2', 'budget 1')
+    >>> board_in(keys, "app: user 1/2\nbudget 1/3")
+    raises BadLine(number=1)
+"""
+
+DESK = r"""
+    >>> answers("day\nuser\n\nput app user 1/2\nput log # 1/2\ncost\nchance user\nfloor base all user 1/4; # 1/2\nretune app 1/5\nspend 1/8\nbeside - 1/4\nplain\nundo\nline")
+    ['done', 'done', '1/4', '1/8', 'done', 'refused Outside', 'refused OverBudget', 'counts', 'user 1/2; # 1/2', 'yes', 'user 1/2; # 1/2']
+"""
+
 
 class Examples(unittest.TestCase):
     def names(self):
         """All that the files of the package define, by name."""
         found = {}
-        for module in (errors, keys, samplers, streams, thinner, answers, surer, tables, joins, edits):
+        for module in (errors, keys, samplers, streams, thinner, answers, surer, tables, joins, edits, logs,
+                       board, texts, desk):
             # What a file imports is left out: a name of the interface may be a helper's name elsewhere.
             own = {name: each for name, each in vars(module).items() if getattr(each, "__module__", "") == module.__name__}
             found.update(own)
@@ -223,6 +277,18 @@ class Examples(unittest.TestCase):
 
     def test_edits(self):
         run_examples(self, EDITS, self.names())
+
+    def test_logs(self):
+        run_examples(self, LOGS, self.names())
+
+    def test_board(self):
+        run_examples(self, BOARD, self.names())
+
+    def test_texts(self):
+        run_examples(self, TEXTS, self.names())
+
+    def test_desk(self):
+        run_examples(self, DESK, self.names())
 
 
 if __name__ == "__main__":

@@ -5,10 +5,15 @@ import unittest
 from surershares.answers import (
     Crowds, Lots, Pairs, Total, Unlike, Worths, answer, kept_mean, question_of, spread, weight,
 )
+from surershares.board import Board
+from surershares.desk import answers
 from surershares.edits import edited, effect, fewest_edits, least_rate, needless, trimmed
 from surershares.errors import BadShare, MixedKeys
 from surershares.joins import Join, crossing
 from surershares.keys import Keys, below, common, is_keyset, joint, keyset_of, keyset_text, tops, within
+from surershares.logs import (
+    Logs, can_be, covered, form_of, is_log, parting, plain_form, plain_forms, teaching, whole, why_not,
+)
 from surershares.samplers import Pipeline, Sampler
 from surershares.streams import (
     agreement, chance, chance_of, chances, classes, coins, is_stream, kept_by, stream_of, values_of,
@@ -17,6 +22,7 @@ from surershares.surer import Contrast, Crowd, both_ways, compare, contrast, cro
 from surershares.tables import (
     barrier, corners, gap, greatest_below, least_above, moved, moves, numbers, pipeline_by,
 )
+from surershares.texts import board_in, board_text, fraction_in, fraction_text, stream_in, stream_text
 from surershares.thinner import Grid, first_over, further, grid_of
 
 KEYS = Keys(("city", "shop", "user"), (("shop", "city"),))
@@ -27,6 +33,9 @@ QUESTIONS = (Total(KEYS, "user"), Worths(((4, 1), (0, -3))), Unlike(KEYS, ("user
 JOIN = Join(HALF, Pipeline.of(KEYS, "user 1/4; city 1/2"), ())
 RIGHTS = ((4, (1, 1, 6)), (1, (2, 3, 5)))
 ASKED = (((4, 2), (9, -1)), None)
+LOG = (STREAM, (0, 4))
+FORM = (("shop",), ("city", "user"))
+BOARD_TEXT = "app: user 1/2\nbase counts - 1/4\nbudget 1/2"
 
 
 def listed(value):
@@ -135,6 +144,37 @@ class ListsForTuples(unittest.TestCase):
             self.assertEqual(edited(HALF, listed(edit)).text, edited(HALF, edit).text)
             self.assertEqual(effect(HALF, listed(edit)), effect(HALF, edit))
 
+    def test_logs(self):
+        form, other, log = (("city", "shop"), ("city", "user")), (("user",), ("#",)), listed(LOG)
+        self.assertEqual(plain_form([["city"], ["city", "shop"], ["user"]]), (("city", "shop"), ("user",)))
+        self.assertEqual((plain_form([[], ["#"]]), plain_form([])), ((("#",),), ()))
+        for one, two in ((form, other), (other, form), ((), form), (form, ()), (form, form)):
+            self.assertIs(covered(listed(one), listed(two)), covered(one, two))
+            self.assertEqual(parting(KEYS, listed(one), listed(two)), parting(KEYS, one, two))
+        for one in (form, other, ()):
+            self.assertIs(can_be(KEYS, log, listed(one)), can_be(KEYS, LOG, one))
+            self.assertEqual(why_not(KEYS, log, listed(one)), why_not(KEYS, LOG, one))
+            self.assertEqual(teaching(KEYS, listed(one)), teaching(KEYS, one))
+            self.assertIs(whole(listed(one), ["#"]), whole(one, ("#",)))
+            self.assertIs(whole(listed(one), ["city", "user"]), whole(one, ("city", "user")))
+            self.assertEqual(Logs(KEYS, [log]).misfit(listed(one)), Logs(KEYS, [LOG]).misfit(one))
+        self.assertEqual((Logs(KEYS, [log]), Logs(KEYS, [log])[0]), (Logs(KEYS, (LOG,)), LOG))
+        for keyset in KEYS.keysets:
+            self.assertIs(Logs(KEYS, [log]).surely(listed(keyset)), Logs(KEYS, [LOG]).surely(keyset))
+        self.assertIs(is_log(KEYS, log), False)
+
+    def test_boards(self):
+        board = Board(KEYS)
+        board += ["app", Sampler.of(KEYS, "user 1/2")]
+        board.retune("app", [1, 3])
+        board.spend([1, 2])
+        kept = board.sift(listed(STREAM), [[0, 1], [1, 2]])
+        self.assertEqual((board["app"].rate, board.budget, kept, board.logs), ((1, 3), (1, 2), STREAM[::2], ((STREAM, STREAM[::2]),)))
+        self.assertEqual(board.attempt([["spend", [1, 3]], ["sift", listed(STREAM), [[0, 1], [1, 2]]]]), (None, STREAM[::2]))
+
+    def test_texts(self):
+        self.assertEqual((fraction_text([1, 3]), stream_text(listed(STREAM))), ("1/3", stream_text(STREAM)))
+
     def test_an_error_has_a_tuple(self):
         with self.assertRaises(BadShare) as caught:
             Sampler(KEYS, [], [4, 2])
@@ -237,6 +277,33 @@ class ByNames(unittest.TestCase):
         self.assertEqual((trimmed(pipeline=HALF), fewest_edits(other=HALF, pipeline=HALF)), (HALF, []))
         self.assertEqual(least_rate(kind="all", other=HALF, k=0, pipeline=HALF), (1, 2))
 
+    def test_logs(self):
+        log = (STREAM, (4,))
+        self.assertEqual((form_of(pipeline=HALF), is_log(thing=log, keys=KEYS)), ((("user",), ("#",)), True))
+        self.assertEqual((plain_form(form=((), ("#",))), plain_forms(keys=Keys(()))), ((("#",),), [(), ((),), (("#",),)]))
+        self.assertEqual((covered(other=(), one=((),)), whole(keyset=(), form=((),))), (False, True))
+        self.assertEqual((can_be(form=(), log=log, keys=KEYS), why_not(form=(), log=log, keys=KEYS)), (False, 0))
+        self.assertEqual((parting(other=(), one=(), keys=KEYS), teaching(form=(), keys=KEYS)), (None, ((), ())))
+        logs = Logs(logs=[log], keys=KEYS)
+        self.assertEqual((logs.misfit(form=()), logs.surely(keyset=()), logs.chance(pipeline=HALF)[0] > 0), ((0, 0), True, True))
+
+    def test_boards(self):
+        board = Board(keys=KEYS)
+        board["app"] = Sampler.of(KEYS, "user 1/2")
+        board.retune(share=(1, 3), name="app")
+        board.spend(budget=(1, 2))
+        board.floor(kind="counts", pipeline=Pipeline.of(KEYS, "- 1/4"), name="f")
+        self.assertEqual((board.floors[0][0], board.effect(sampler=board["app"], name="app")), ("f", "alike"))
+        board.lift(name="f")
+        self.assertEqual((board.sift(numbers=(), stream=()), board.attempt(deeds=())), ((), ()))
+        board.spend(budget=(1, 1))
+        self.assertIsNone(board.leave(name="app"))
+
+    def test_texts_and_the_desk(self):
+        self.assertEqual((fraction_text(fraction=(1, 2)), fraction_in(text="1/2")), ("1/2", (1, 2)))
+        self.assertEqual((stream_text(stream=STREAM[:1]), stream_in(text="4: 1 1 5", keys=KEYS)), ("4: 1 1 5", STREAM[:1]))
+        self.assertEqual((board_text(board=board_in(text=BOARD_TEXT, keys=KEYS)), answers(text="\nline")), (BOARD_TEXT, ["-"]))
+
 
 class Copies(unittest.TestCase):
     def test_keys_copy(self):
@@ -300,6 +367,23 @@ class Copies(unittest.TestCase):
         self.assertEqual((join.keyset, found.text), (("user",), "user 1/2; # 2/3 a"))
         self.assertEqual(HALF.text, "user 1/2; # 2/3 a")
 
+    def test_logs_are_copied(self):
+        log, form, other = listed(LOG), listed(FORM), [["#"]]
+        logs = Logs(KEYS, [log])
+        (plain_form(form), covered(form, other), can_be(KEYS, log, form), why_not(KEYS, log, form), parting(KEYS, form, other))
+        (parting(KEYS, other, form), teaching(KEYS, form), whole(form, ["user"]), logs.misfit(form), logs.surely(["user"]))
+        self.assertEqual((log, form, other), (listed(LOG), listed(FORM), [["#"]]))
+        log[0][0][1][0] = 77
+        log[1].clear()
+        self.assertEqual(logs[0], LOG)
+
+    def test_deeds_are_copied(self):
+        board, deeds = Board(KEYS), [["set", "a", Sampler.of(KEYS, "user 1/2")], ["retune", "a", [1, 3]], ["sift", listed(STREAM), [[0, 1], [1, 2]]]]
+        board.attempt(deeds)
+        self.assertEqual(deeds[1:], [["retune", "a", [1, 3]], ["sift", listed(STREAM), [[0, 1], [1, 2]]]])
+        deeds[1][2][0] = deeds[2][1][0][1][0] = 5
+        self.assertEqual((board["a"].rate, board.logs[0][0]), ((1, 3), STREAM))
+
     def test_operators_change_nothing(self):
         one, other = Pipeline.of(KEYS, "user 1/2; # 1/2"), Pipeline.of(KEYS, "user 1/3")
         (one & other, one | other, one >> other, one <= other, one < other, one == other, one.plain, one.salted("a"))
@@ -312,7 +396,8 @@ class Copies(unittest.TestCase):
         none, one = Pipeline(KEYS), Pipeline.of(KEYS, "city 1/2; user 1/2")
         for call in (lambda: classes(KEYS, ("user",), STREAM), lambda: chances(HALF, STREAM), lambda: QUESTIONS[2].parts(STREAM),
                      lambda: moves(Pipeline.of(KEYS, "# 1/2"), Pipeline.of(KEYS, "- 1/2")), lambda: gap(HALF, none),
-                     lambda: JOIN.joined(STREAM, RIGHTS), lambda: fewest_edits(HALF, none),
+                     lambda: JOIN.joined(STREAM, RIGHTS), lambda: fewest_edits(HALF, none), lambda: plain_forms(KEYS),
+                     Logs(KEYS, [LOG]).least_forms, lambda: answers("\nline"),
                      lambda: [corner.text for corner in corners(one, Pipeline.of(KEYS, "- 1/2"), "counts")]):
             once = call()
             again = list(once)
@@ -343,10 +428,16 @@ class Kinds(unittest.TestCase):
                       JOIN.spread(STREAM, RIGHTS), JOIN.joined(STREAM, RIGHTS)[0], crossing(JOIN, ["user"]).spreads,
                       crossing(JOIN, ["user"]).asked, crossing(JOIN, ["user"]).asked[0][0], crossing(JOIN, ["user"]).streams(),
                       crossing(JOIN, ["user"]).streams()[1][0][1], needless(HALF), fewest_edits(HALF, Pipeline(KEYS))[0],
-                      least_rate(HALF, 0, HALF, "all")):
+                      least_rate(HALF, 0, HALF, "all"), form_of(HALF), plain_form([["user"]]), plain_form([["user"]])[0], plain_forms(KEYS)[1],
+                      plain_forms(KEYS)[2][0], parting(KEYS, [["user"]], [[]]), parting(KEYS, [["user"]], [[]])[0], parting(KEYS, [["user"]], [[]])[1],
+                      parting(KEYS, [["user"]], [[]])[0][0][1], teaching(KEYS, [["user"]]), teaching(KEYS, [["user"]])[0], teaching(KEYS, [])[1],
+                      Logs(KEYS, [listed(LOG)])[0], Logs(KEYS, [listed(LOG)])[0][0][0][1], Logs(KEYS, [LOG]).misfit([]), Logs(KEYS).alone(),
+                      Logs(KEYS, [LOG]).least_forms()[0], Logs(KEYS, [LOG]).chance(HALF), fraction_in("1/2"), stream_in(KEYS, "4: 1 1 5"),
+                      stream_in(KEYS, "4: 1 1 5")[0], stream_in(KEYS, "4: 1 1 5")[0][1], stream_in(KEYS, "")):
             self.assertIs(type(found), tuple)
         for found in (classes(KEYS, [], STREAM), chances(HALF, STREAM), QUESTIONS[6].parts(STREAM), corners(HALF, HALF, "all"),
-                      moves(HALF, HALF), gap(HALF, Pipeline(KEYS)), JOIN.joined((), ()), fewest_edits(HALF, HALF)):
+                      moves(HALF, HALF), gap(HALF, Pipeline(KEYS)), JOIN.joined((), ()), fewest_edits(HALF, HALF),
+                      plain_forms(KEYS), Logs(KEYS, [LOG]).least_forms(), answers("")):
             self.assertIs(type(found), list)
 
     def test_truths_are_truths(self):
@@ -355,13 +446,15 @@ class Kinds(unittest.TestCase):
                       one == one, one <= one, one < one, () in one, bool(one), one[0] == one[0], is_stream(KEYS, ()),
                       Grid(KEYS, (), 1, 1) == Grid(KEYS, (), 1, 1), Grid(KEYS, (), 1, 1).shows(one, one), surer_sums(one, one),
                       surer_counts(one, one), contrast(one, Pipeline(KEYS)) == contrast(one, Pipeline(KEYS)),
-                      crowd(one, Pipeline(KEYS)) == crowd(one, Pipeline(KEYS)), JOIN == JOIN, crossing(JOIN, ["user"]) == crossing(JOIN, ["user"])):
+                      crowd(one, Pipeline(KEYS)) == crowd(one, Pipeline(KEYS)), JOIN == JOIN, crossing(JOIN, ["user"]) == crossing(JOIN, ["user"]),
+                      is_log(KEYS, LOG), covered((), ()), can_be(KEYS, LOG, ()), whole((), ()), Logs(KEYS) == Logs(KEYS), Logs(KEYS).surely(()),
+                      Board(KEYS) == Board(KEYS), Board(KEYS).undo(), "a" in Board(KEYS)):
             self.assertIs(type(found), bool)
 
     def test_equals_nothing_else(self):
         none = Pipeline(KEYS)
         things = [KEYS, Sampler.of(KEYS, "user 1/2"), HALF, Grid(KEYS, (), 1, 2), contrast(HALF, none), crowd(HALF, none),
-                  JOIN, crossing(JOIN, ("user",)), *QUESTIONS, None, 1, "user 1/2", ("user",)]
+                  JOIN, crossing(JOIN, ("user",)), Logs(KEYS), Board(KEYS), *QUESTIONS, None, 1, "user 1/2", ("user",)]
         for place, one in enumerate(things[:-4]):
             for other in things[:place] + things[place + 1:]:
                 self.assertIs(one == other, False)

@@ -4,14 +4,18 @@ import inspect
 import unittest
 
 import surershares.answers as answers
+import surershares.board as board
+import surershares.desk as desk
 import surershares.edits as edits
 import surershares.errors as errors
 import surershares.joins as joins
 import surershares.keys as keys
+import surershares.logs as logs
 import surershares.samplers as samplers
 import surershares.streams as streams
 import surershares.surer as surer
 import surershares.tables as tables
+import surershares.texts as texts
 import surershares.thinner as thinner
 
 LOOKUPS = "NoName(name), NoPlace(place), NoRecord(number), NoService(name), NoFloor(name)"
@@ -87,6 +91,29 @@ FUNCTIONS = {
         "fewest_edits": ["pipeline", "other"],
         "least_rate": ["pipeline", "k", "other", "kind"],
     },
+    logs: {
+        "form_of": ["pipeline"],
+        "is_log": ["keys", "thing"],
+        "plain_form": ["form"],
+        "plain_forms": ["keys"],
+        "covered": ["one", "other"],
+        "can_be": ["keys", "log", "form"],
+        "why_not": ["keys", "log", "form"],
+        "parting": ["keys", "one", "other"],
+        "teaching": ["keys", "form"],
+        "whole": ["form", "keyset"],
+    },
+    texts: {
+        "fraction_text": ["fraction"],
+        "fraction_in": ["text"],
+        "stream_text": ["stream"],
+        "stream_in": ["keys", "text"],
+        "board_text": ["board"],
+        "board_in": ["keys", "text"],
+    },
+    desk: {
+        "answers": ["text"],
+    },
 }
 
 QUESTION = "__init__ value parts __add__ __sub__ __neg__ __mul__"
@@ -110,6 +137,11 @@ METHODS = {
     surer.Crowd: PAPER,
     joins.Join: "__init__ left right keyset schema shared joined value chance answer spread gain apart best __eq__",
     joins.Crossing: "n spreads asked streams __eq__",
+    logs.Logs: "__init__ schema __len__ __getitem__ __iter__ __eq__ misfit least_forms alone surely chance",
+    board.Board: (
+        "__init__ __getitem__ __setitem__ __iadd__ __contains__ __len__ __iter__ names schema pipeline cost budget leave retune "
+        "spend floor lift floors effect sift logs attempt undo twin __eq__"
+    ),
 }
 
 PROPERTIES = {
@@ -125,6 +157,8 @@ PROPERTIES = {
     surer.Crowd: "keyset many spreads",
     joins.Join: "left right keyset schema shared",
     joins.Crossing: "n spreads asked",
+    logs.Logs: "schema",
+    board.Board: "names schema pipeline cost budget floors logs",
 }
 
 ARGUMENTS = {
@@ -174,6 +208,23 @@ ARGUMENTS = {
     joins.Join.apart: "(self, keyset)",
     joins.Join.best: "(self)",
     joins.Crossing.streams: "(self)",
+    logs.Logs: "(keys, logs=())",
+    logs.Logs.misfit: "(self, form)",
+    logs.Logs.least_forms: "(self)",
+    logs.Logs.alone: "(self)",
+    logs.Logs.surely: "(self, keyset)",
+    logs.Logs.chance: "(self, pipeline)",
+    board.Board: "(keys)",
+    board.Board.leave: "(self, name)",
+    board.Board.retune: "(self, name, share)",
+    board.Board.spend: "(self, budget)",
+    board.Board.floor: "(self, name, pipeline, *, kind='all')",
+    board.Board.lift: "(self, name)",
+    board.Board.effect: "(self, name, sampler)",
+    board.Board.sift: "(self, stream, numbers)",
+    board.Board.attempt: "(self, deeds)",
+    board.Board.undo: "(self)",
+    board.Board.twin: "(self)",
 }
 
 
@@ -240,7 +291,8 @@ class Files(unittest.TestCase):
 
     def test_classes(self):
         wanted = {keys: "Keys", samplers: "Sampler Pipeline", thinner: "Grid", answers: "Total Worths Unlike Pairs Crowds Lots",
-                  surer: "Contrast Crowd", joins: "Join Crossing"}
+                  surer: "Contrast Crowd", joins: "Join Crossing",
+                  logs: "Logs", board: "Board"}
         for module, names in wanted.items():
             for name in names.split():
                 self.assertEqual(vars(module)[name].__module__, module.__name__)
